@@ -1,0 +1,1 @@
+"""Tests of spentframes, one file for each module of the package."""

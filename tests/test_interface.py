@@ -1,0 +1,65 @@
+"""The section "The interface": names, arguments and files as they are written there."""
+
+import importlib
+import inspect
+import unittest
+
+# For each module its functions, and its classes with their methods and properties.
+FUNCTIONS = {
+    "wholes": ("is_whole(thing, low=None, high=None)", "is_sequence(thing)"),
+    "orders": ("is_course(order, states)",),
+    "makers": (
+        "chain_order(n)", "flat_order(n)", "product_order(one, other)", "beside_order(one, other)",
+        "stacked_order(one, other)", "without_state(order, state)", "renamed_order(order, names)",
+        "facts_order(facts, rules)", "words_order(letters, depth)", "upper_order(order, state)"),
+    "datatext": ("check_data(data)", "read_data(text)", "data_text(data)"),
+    "shapes": (
+        "shape_fault(data, shape)", "fits_shape(data, shape)", "check_shape(data, shape)", "read_shaped(text, shape)"),
+}
+CLASSES = {
+    ("orders", "Order(n, pairs)"): (
+        "at_most(self, one, other)", "covers(self, state)", "above(self, state)", "below(self, state)",
+        "height(self, state)", "count_courses(self, state)", "each_course(self, state)", "__len__(self)",
+        "__eq__(self, other)"),
+}
+PROPERTIES = {("orders", "Order"): ("ends",)}
+GENERATORS = {("orders", "Order.each_course")}
+
+
+def described(name, thing):
+    return name + str(inspect.signature(thing))
+
+
+class Interface(unittest.TestCase):
+    def found(self, module, path):
+        """Return what stands under a name, and check that it is defined in that file."""
+        thing = importlib.import_module("spentframes." + module)
+        for name in path.split("."):
+            thing = vars(thing)[name]
+        self.assertEqual(thing.__module__, "spentframes." + module)
+        return thing
+
+    def test_functions(self):
+        for module, lines in FUNCTIONS.items():
+            for line in lines:
+                name = line.split("(")[0]
+                thing = self.found(module, name)
+                self.assertTrue(inspect.isfunction(thing))
+                self.assertEqual(described(name, thing), line)
+
+    def test_classes_and_their_own_methods(self):
+        for (module, line), methods in CLASSES.items():
+            name = line.split("(")[0]
+            self.assertEqual(described(name, self.found(module, name)), line)
+            for method in methods:
+                word = method.split("(")[0]
+                self.assertEqual(described(word, self.found(module, name + "." + word)), method)
+
+    def test_properties(self):
+        for (module, name), words in PROPERTIES.items():
+            for word in words:
+                self.assertIsInstance(vars(self.found(module, name))[word], property)
+
+    def test_generators(self):
+        for module, path in GENERATORS:
+            self.assertTrue(inspect.isgeneratorfunction(self.found(module, path)))
