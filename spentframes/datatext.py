@@ -41,18 +41,18 @@ def check_data(data):
     return _checked(data, ())
 
 
-def _written(data):
+def _text_of(data):
     """Return the text of data that are checked."""
     if data is None:
         return "-"
     if isinstance(data, tuple):
-        return "(" + " ".join([_written(part) for part in data]) + ")"
+        return "(" + " ".join([_text_of(part) for part in data]) + ")"
     return str(data)
 
 
 def data_text(data):
     """Return the text of data."""
-    return _written(check_data(data))
+    return _text_of(check_data(data))
 
 
 def _read_number(text, place):

@@ -55,7 +55,7 @@ def facts_order(facts, rules):
     sets = [()]
     for fact in range(facts):
         sets = sets + [kept + (fact,) for kept in sets]
-    sets = sorted([kept for kept in sets if _keeps_rules(kept, rules)], key=lambda kept: (len(kept), kept))
+    sets = sorted([kept for kept in sets if _keeps_rules(kept, rules)], key=lambda one: (len(one), one))
     _check_many(len(sets))
     pairs = []
     for low in range(len(sets)):

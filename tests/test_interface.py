@@ -15,15 +15,32 @@ FUNCTIONS = {
     "datatext": ("check_data(data)", "read_data(text)", "data_text(data)"),
     "shapes": (
         "shape_fault(data, shape)", "fits_shape(data, shape)", "check_shape(data, shape)", "read_shaped(text, shape)"),
+    "ordertext": ("order_text(order)", "read_order(text)"),
+    "rows": (
+        "check_count(m, most=24)", "check_row(m, row)", "count_falling(m, d)", "count_all_rows(m)", "row_place(m, row)",
+        "row_at(m, d, place)", "row_number(m, row)", "row_numbered(m, number)", "all_rows(m)", "begins_row(one, other)",
+        "first_meeting(rows)", "which_begins(rows, row)", "unspent_frames(m, row)", "spell_row(left, row)",
+        "count_among(left, row)", "first_time_row(frames)"),
+    "dealing": (
+        "free_rows(k, d, taken)", "is_full(k, taken)", "deal_rows(k, lengths, taken=())", "weight_of(k, lengths)",
+        "lengths_fit(k, lengths)", "deal_shortage(k, lengths, taken=())", "dealing_fault(k, lengths, rows, taken=())"),
+    "needs": (
+        "least_count(needs)", "need_table(order)", "need_of(order)", "need_fault(order, table)", "spare_table(order)",
+        "need_paper(order)", "paper_fault(order, paper)", "changed_needs(old, table, new)"),
+    "plans": ("plan_fault(order, state, k, plan)", "plan_of_lengths(order, state, k, lengths)"),
+    "codes": (
+        "code_fault(code)", "reached_couples(code)", "deep_code(order, m)", "code_length(code)", "widened_code(code, m)",
+        "code_above(code, state, k)", "code_text(code)", "read_code(order, text)"),
 }
 CLASSES = {
     ("orders", "Order(n, pairs)"): (
         "at_most(self, one, other)", "covers(self, state)", "above(self, state)", "below(self, state)",
         "height(self, state)", "count_courses(self, state)", "each_course(self, state)", "__len__(self)",
         "__eq__(self, other)"),
+    ("codes", "Code(order, m, entries)"): ("plan_at(self, state, k)", "__eq__(self, other)"),
 }
 PROPERTIES = {("orders", "Order"): ("ends",)}
-GENERATORS = {("orders", "Order.each_course")}
+GENERATORS = {("orders", "Order.each_course"), ("rows", "all_rows")}
 
 
 def described(name, thing):
