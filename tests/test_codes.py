@@ -11,46 +11,9 @@ from spentframes.makers import chain_order, flat_order, upper_order
 from spentframes.needs import need_of, need_table
 from spentframes.orders import Order
 from spentframes.plans import plan_fault, plan_of_lengths
-from tests.helpers import form_orders, raised, wide_order
+from tests.helpers import form_orders, raised, right_codes, wide_order
 
 NO_COUNTS = (-1, 25, True, False, None, "3", 3.0)
-
-
-def shuffled(plan, k, dice):
-    """Return a plan with other frames in the place of these."""
-    names = dice.sample(range(k), k)
-    return [[names[frame] for frame in row] for row in plan]
-
-
-def random_code(order, m, seed):
-    """Return any right code, with plans of any lengths that leave each cover its need."""
-    dice = random.Random(seed)
-    needs, entries, waiting, seen = need_table(order), [], [(0, m)], set()
-    while waiting:
-        state, k = waiting.pop()
-        covers = order.covers(state)
-        if (state, k) in seen or not covers:
-            continue
-        seen.add((state, k))
-        plan = None
-        while plan is None:
-            deep = [k - needs[cover] for cover in covers]
-            lengths = [dice.randint(1, most) if dice.random() < 0.5 else most for most in deep]
-            plan = plan_of_lengths(order, state, k, lengths)
-        entries.append([state, k, shuffled(plan, k, dice)])
-        waiting += [(cover, k - length) for cover, length in zip(covers, lengths)]
-    dice.shuffle(entries)
-    return Code(order, m, entries)
-
-
-def right_codes():
-    """Return right codes of many orders, with as many frames as are needed and with some more."""
-    codes = [Code(chain_order(1), 0, []), Code(chain_order(1), 24, ())]
-    for at, order in enumerate(form_orders()):
-        for more in (0, 1, 3):
-            m = need_of(order) + more
-            codes += [deep_code(order, m), random_code(order, m, at)]
-    return codes
 
 
 def courses_told(code):

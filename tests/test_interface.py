@@ -31,6 +31,15 @@ FUNCTIONS = {
     "codes": (
         "code_fault(code)", "reached_couples(code)", "deep_code(order, m)", "code_length(code)", "widened_code(code, m)",
         "code_above(code, state, k)", "code_text(code)", "read_code(order, text)"),
+    "quick": ("fewest_table(order, m)", "fewest_frames(order, m)", "quick_code(order, m)"),
+    "coursing": (
+        "route_between(order, low, high)", "course_row(code, course)", "read_place(code, row)", "told_course(code, row)",
+        "shown_state(code, row)", "next_frames(code, row)", "each_row(code)"),
+    "ends": (
+        "start_sender()", "sent_frame(sender)", "aim_of(code, row, risen)", "aim_frame(code, row, risen)",
+        "hear_rise(code, sender, state)", "hear_ack(code, sender, frame)", "hear_frame(row, frame)", "ack_frame(row)"),
+    "nets": ("net_text(net)", "read_net(text)"),
+    "tables": ("table_text(table)", "read_table(text)"),
 }
 CLASSES = {
     ("orders", "Order(n, pairs)"): (
@@ -38,9 +47,18 @@ CLASSES = {
         "height(self, state)", "count_courses(self, state)", "each_course(self, state)", "__len__(self)",
         "__eq__(self, other)"),
     ("codes", "Code(order, m, entries)"): ("plan_at(self, state, k)", "__eq__(self, other)"),
+    ("coursing", "Place(state, unspent, begun, follows)"): ("__eq__(self, other)",),
+    ("nets", "Net(nodes, source, sink, links)"): (
+        "sender(self, link, way)", "receiver(self, link, way)", "links_of(self, node)", "with_link(self, link)",
+        "without_link(self, link)", "__len__(self)", "__eq__(self, other)"),
+    ("tables", "NodeTable(sends, moves, rises=None, shows=None)"): (
+        "next_seat(self, seat, link, frame)", "next_on_rise(self, seat, state)", "__len__(self)", "__eq__(self, other)"),
+    ("systems", "System(net, tables, order, goals=None, spent=())"): (
+        "first(self)", "deeds_from(self, standing)", "after(self, standing, deed)", "shown(self, standing)",
+        "sending(self, standing)", "is_quiet(self, standing)", "is_settled(self, standing)"),
 }
 PROPERTIES = {("orders", "Order"): ("ends",)}
-GENERATORS = {("orders", "Order.each_course"), ("rows", "all_rows")}
+GENERATORS = {("orders", "Order.each_course"), ("rows", "all_rows"), ("coursing", "each_row")}
 
 
 def described(name, thing):
