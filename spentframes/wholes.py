@@ -18,3 +18,10 @@ def is_sequence(thing):
 def is_couple(thing, high):
     """Tell whether a thing is a sequence of two whole numbers from 0 to high."""
     return is_sequence(thing) and len(thing) == 2 and is_whole(thing[0], 0, high) and is_whole(thing[1], 0, high)
+
+
+def as_tuples(thing):
+    """Return a thing with tuples in the place of lists, within one another too."""
+    if not is_sequence(thing):
+        return thing
+    return tuple([as_tuples(part) for part in thing])

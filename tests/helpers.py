@@ -4,6 +4,7 @@ import itertools
 import random
 
 from spentframes.codes import Code, deep_code
+from spentframes.flows import greatest_paths, paths_fault
 from spentframes.makers import chain_order
 from spentframes.needs import need_of, need_table
 from spentframes.nets import Net
@@ -157,3 +158,39 @@ def relay_system():
     sink = NodeTable([[], [(1, 0)]], [[(1, 0, 1)], []], None, [0, 1])
     relay = NodeTable([[], [(1, 0)], [(1, 0), (0, 0)]], [[(0, 0, 1)], [(1, 0, 2)], []])
     return System(net, [source, sink, relay], Order(2, [(0, 1)]))
+
+
+def random_run(system, many, seed):
+    """Return a run of at most so many deeds, any of those that can be done at each place."""
+    dice = random.Random(seed)
+    run, standing = (), system.first()
+    while len(run) < many and system.deeds_from(standing):
+        run += (dice.choice(system.deeds_from(standing)),)
+        standing = system.after(standing, run[-1])
+    return run
+
+
+def some_paths(net, seed):
+    """Return sequences of right paths of a net: none, all that there are, some of them, and any that a walk finds."""
+    dice = random.Random(seed)
+    paths = greatest_paths(net, dice.choice([1, 2, 4, 99]))
+    some = tuple(path for path in paths if dice.random() < 0.6)
+    return [(), paths, some, tuple(dice.sample(paths, len(paths))), walked_paths(net, dice)]
+
+
+def walked_paths(net, dice):
+    """Return right paths that are found by walks without a look at what is left for others."""
+    hops = [(link, way, 0 if frames > 2 and kind == "ordered" else frame) for link, (_, _, frames, kind) in enumerate(net.links)
+            for way in (0, 1) for frame in range(frames)]
+    paths = ()
+    for _ in range(12):
+        path, nodes = (), [net.source]
+        while nodes[-1] != net.sink:
+            nexts = [hop for hop in hops if net.sender(*hop[:2]) == nodes[-1] and net.receiver(*hop[:2]) not in nodes]
+            if not nexts:
+                break
+            path += (dice.choice(nexts),)
+            nodes.append(net.receiver(*path[-1][:2]))
+        if nodes[-1] == net.sink and paths_fault(net, paths + (path,)) is None:
+            paths += (path,)
+    return paths

@@ -40,6 +40,21 @@ FUNCTIONS = {
         "hear_rise(code, sender, state)", "hear_ack(code, sender, frame)", "hear_frame(row, frame)", "ack_frame(row)"),
     "nets": ("net_text(net)", "read_net(text)"),
     "tables": ("table_text(table)", "read_table(text)"),
+    "runs": (
+        "walk(system, run)", "end_of(system, run)", "lean_run(system, run)", "run_fault(system, run)",
+        "loop_fault(system, run, loop)", "round_from(system, standing, held=())", "view_of(net, run, nodes)",
+        "read_run(text)", "run_text(run)"),
+    "cuts": (
+        "is_thick(net, link)", "check_side(net, side)", "frames_across(net, side)", "count_across(net, side)",
+        "count_unsent(net, side, sent)", "each_side(net)", "least_cut(net)"),
+    "flows": (
+        "paths_fault(net, paths)", "path_nodes(net, path)", "greatest_paths(net, most)", "more_paths(net, paths, most)",
+        "side_of_paths(net, paths)", "is_tight(net, side, paths)", "free_paths(net, paths, sent)"),
+    "netedits": ("paths_without(net, paths, link)", "healed_paths(net, paths, link, most)"),
+    "lots": (
+        "fair_lots(wants, arcs)", "is_fair_lot(wants, arcs, lot)", "fair_tour(wants, arcs, lot, vertex)",
+        "tour_fault(wants, arcs, vertex, tour)", "no_lot_paper(wants, arcs)", "no_lot_fault(wants, arcs, steps)"),
+    "outcomes": ("breaks(system, outcome)",),
 }
 CLASSES = {
     ("orders", "Order(n, pairs)"): (
@@ -56,9 +71,14 @@ CLASSES = {
     ("systems", "System(net, tables, order, goals=None, spent=())"): (
         "first(self)", "deeds_from(self, standing)", "after(self, standing, deed)", "shown(self, standing)",
         "sending(self, standing)", "is_quiet(self, standing)", "is_settled(self, standing)"),
+    ("outcomes", "Above(run)"): ("__eq__(self, other)",),
+    ("outcomes", "Back(run)"): ("__eq__(self, other)",),
+    ("outcomes", "Stuck(run, loop)"): ("__eq__(self, other)",),
+    ("outcomes", "Told(rows)"): ("__eq__(self, other)",),
 }
 PROPERTIES = {("orders", "Order"): ("ends",)}
-GENERATORS = {("orders", "Order.each_course"), ("rows", "all_rows"), ("coursing", "each_row")}
+GENERATORS = {("orders", "Order.each_course"), ("rows", "all_rows"), ("coursing", "each_row"), ("runs", "walk"),
+              ("cuts", "each_side")}
 
 
 def described(name, thing):

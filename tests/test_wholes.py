@@ -2,7 +2,7 @@
 
 import unittest
 
-from spentframes.wholes import is_couple, is_sequence, is_whole
+from spentframes.wholes import as_tuples, is_couple, is_sequence, is_whole
 
 NO_WHOLES = (True, False, None, 1.0, "1", b"1", (1,), [1], {1: 1}, {1}, 1j)
 NO_SEQUENCES = ("ab", "", b"ab", {}, {1: 2}, set(), {1}, None, 3, range(3), iter([1]))
@@ -46,3 +46,10 @@ class Sequences(unittest.TestCase):
             self.assertIs(is_couple(thing, 2), True)
         for thing in ((0,), (0, 1, 2), (0, 3), (3, 0), (-1, 0), (0, -1), (True, 0), (0, False), "01", None, {0: 1, 1: 0}):
             self.assertIs(is_couple(thing, 2), False, thing)
+
+    def test_lists_become_tuples_within_one_another(self):
+        given = [1, [2, ([], "ab")], {"k": [3]}]
+        self.assertEqual(as_tuples(given), (1, (2, ((), "ab")), {"k": [3]}))
+        self.assertEqual(given, [1, [2, ([], "ab")], {"k": [3]}])
+        for thing in (None, 5, "ab", (), (1, (2,))):
+            self.assertEqual(as_tuples(thing), thing)
