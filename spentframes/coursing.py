@@ -1,10 +1,8 @@
 """Courses told in frames: the row of a course, and what a row of frames tells."""
 
 from spentframes.errors import BadCourse
-from spentframes.rows import begins_row, check_count, check_row, spell_row
+from spentframes.rows import MOST_LISTED, begins_row, check_count, check_row, spell_row
 from spentframes.wholes import is_sequence, is_whole
-
-MOST_LISTED = 6
 
 
 class Place:

@@ -2,20 +2,16 @@
 
 from spentframes.cuts import count_across, is_thick, least_cut
 from spentframes.errors import BadPaths
+from spentframes.nets import is_triple
 from spentframes.rows import check_count
-from spentframes.wholes import is_sequence, is_whole
+from spentframes.wholes import is_sequence
 
 MOST_PATHS = 99
 
 
 def _is_hop(net, hop):
-    """Tell whether a thing is a hop (link, way, frame) of a net."""
-    if not is_sequence(hop) or len(hop) != 3:
-        return False
-    link, way, frame = hop
-    if not is_whole(link, 0, len(net) - 1) or not is_whole(way, 0, 1):
-        return False
-    return is_whole(frame, 0, 0 if is_thick(net, link) else net.links[link][2] - 1)
+    """Tell whether a thing is a hop (link, way, frame) of a net; over a thick link the frame must be 0."""
+    return is_triple(net, hop) and (hop[2] == 0 or not is_thick(net, hop[0]))
 
 
 def _hop_word(net, taken, nodes, hop):

@@ -64,7 +64,7 @@ class Net:
         if not is_whole(link, 0, len(self.links) - 1):
             raise NoLink(link)
 
-    def _ends(self, link, way):
+    def _way_ends(self, link, way):
         """Return the node from which a way leads and the one to which it leads."""
         self._check_link(link)
         if not is_whole(way, 0, 1):
@@ -74,11 +74,11 @@ class Net:
 
     def sender(self, link, way):
         """Return the node from which a way of a link leads."""
-        return self._ends(link, way)[0]
+        return self._way_ends(link, way)[0]
 
     def receiver(self, link, way):
         """Return the node to which a way of a link leads."""
-        return self._ends(link, way)[1]
+        return self._way_ends(link, way)[1]
 
     def links_of(self, node):
         """Return the numbers of the links that join a node, ascending."""
@@ -94,6 +94,16 @@ class Net:
         """Return the net without a link; the number of each later one falls by one."""
         self._check_link(link)
         return Net(self.nodes, self.source, self.sink, self.links[:link] + self.links[link + 1:])
+
+
+def is_triple(net, thing):
+    """Tell whether a thing is a triple (link, way, frame) of a net."""
+    if not is_sequence(thing) or len(thing) != 3:
+        return False
+    link, way, frame = thing
+    if not is_whole(link, 0, len(net) - 1) or not is_whole(way, 0, 1):
+        return False
+    return is_whole(frame, 0, net.links[link][2] - 1)
 
 
 def net_text(net):

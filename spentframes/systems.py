@@ -1,6 +1,7 @@
 """Systems: a net whose nodes run node tables, an order, and what can happen in them."""
 
 from spentframes.errors import BadSystem, NoDeed, OrderedLink
+from spentframes.nets import is_triple
 from spentframes.tables import NodeTable
 from spentframes.wholes import is_sequence, is_whole
 
@@ -51,16 +52,6 @@ def are_goals(order, goals):
     return len(set(goals)) == len(goals)
 
 
-def _is_triple(net, triple):
-    """Tell whether a thing is a triple (link, way, frame) of a net."""
-    if not is_sequence(triple) or len(triple) != 3:
-        return False
-    link, way, frame = triple
-    if not is_whole(link, 0, len(net) - 1) or not is_whole(way, 0, 1):
-        return False
-    return is_whole(frame, 0, net.links[link][2] - 1)
-
-
 def _check_system(net, tables, order, goals, spent):
     """Raise BadSystem or OrderedLink if the parts make no system."""
     if not is_sequence(tables) or len(tables) != net.nodes:
@@ -71,7 +62,7 @@ def _check_system(net, tables, order, goals, spent):
             raise BadSystem(node, word)
     if goals is not None and not are_goals(order, goals):
         raise BadSystem(net.source, "goals")
-    if not is_sequence(spent) or not all([_is_triple(net, triple) for triple in spent]):
+    if not is_sequence(spent) or not all([is_triple(net, triple) for triple in spent]):
         raise BadSystem(0, "spent")
     for at, link in enumerate(net.links):
         if link[3] == "ordered":
@@ -142,9 +133,7 @@ class System:
         if len(deed) != 4 or deed[0] != "deliver":
             return False
         _, link, way, frame = deed
-        if not is_whole(link, 0, len(sent) - 1) or not is_whole(way, 0, 1):
-            return False
-        return is_whole(frame) and frame in sent[link][way]
+        return is_triple(self.net, (link, way, frame)) and frame in sent[link][way]
 
     def _next_seat(self, at, deed):
         """Return the node that a deed reaches and the seat to which it leads it."""

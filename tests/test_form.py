@@ -100,6 +100,18 @@ class Form(unittest.TestCase):
             inner = {node.id for node in nodes(tree, ast.Name) if isinstance(node.ctx, ast.Store)}
             self.assertEqual((inner | {node.arg for node in nodes(tree, ast.arg)}) & imported, set(), path.name)
 
+    def test_attributes_methods_and_properties_have_names_of_their_own(self):
+        attributes, methods, properties = set(), set(), set()
+        for path, tree in trees():
+            for kind in nodes(tree, ast.ClassDef):
+                made = [part for part in kind.body if isinstance(part, ast.FunctionDef)]
+                properties |= {part.name for part in made if part.decorator_list}
+                methods |= {part.name for part in made if not part.decorator_list and not part.name.startswith("__")}
+                attributes |= {node.attr for node in nodes(kind, ast.Attribute) if isinstance(node.ctx, ast.Store)}
+        self.assertEqual([attributes & methods, attributes & properties, methods & properties], [set()] * 3)
+        for thing in ("", b"", 0, [], {}, set(), ()):
+            self.assertEqual((attributes | methods | properties) & set(dir(thing)), set())
+
     def test_strings_hold_no_escapes_that_are_barred(self):
         for path, tree in trees():
             for node in nodes(tree, ast.Constant):

@@ -126,6 +126,22 @@ class Lots(unittest.TestCase):
         self.assertEqual(fair_lots(wants, arcs), ((3,),))
         self.assertEqual(fair_lots([[]] + wants[1:], arcs), ((0, 1, 2, 3),))
 
+    def test_keys_that_others_still_give(self):
+        wants, arcs = [[9], [1], [1]], [(0, 1, [1]), (1, 0, [1]), (1, 2, [1]), (2, 1, [])]
+        self.assertEqual(fair_lots(wants, arcs), ((1, 2),))
+        self.assertEqual(fair_lots(wants, arcs[:2] + [(1, 2, []), (2, 1, [])]), ())
+
+    def test_dense_graphs_against_a_search(self):
+        for seed in range(300):
+            dice = random.Random(seed)
+            n = dice.randint(3, 6)
+            arcs = [(one, other, dice.sample([0, 1, 2, 3], dice.randint(0, 2))) for one in range(n) for other in range(n)
+                    if dice.random() < 0.6]
+            wants = [dice.sample([0, 1, 2, 3, 4], dice.choice([0, 1, 1, 2])) for _ in range(n)]
+            lots = all_lots(wants, arcs)
+            greatest = sorted(tuple(sorted(lot)) for lot in lots if not any(lot < other for other in lots))
+            self.assertEqual(fair_lots(wants, arcs), tuple(greatest), (wants, arcs))
+
     def test_several_arcs_with_the_same_ends(self):
         arcs = [(0, 1, [1]), (0, 1, [2]), (1, 0, []), (1, 0, [3, 3])]
         self.assertEqual(fair_lots([[1, 2], [3]], arcs), ((0, 1),))

@@ -33,9 +33,11 @@ class Outcomes(unittest.TestCase):
         made = [Above([RISE]), Above([]), Back([RISE]), Back([]), Stuck([RISE], []), Stuck([], [RISE]), Told([RISE]), Told([])]
         again = [Above((["rise", 1],)), Above(()), Back(([*RISE],)), Back(()), Stuck((RISE,), ()), Stuck((), (RISE,)),
                  Told(([*RISE],)), Told(())]
+        made += [Stuck([RISE], [RISE]), Stuck([], [])]
+        again += [Stuck((RISE,), (RISE,)), Stuck((), ())]
         for at, one in enumerate(made):
-            self.assertEqual([one == other for other in again], [at == k for k in range(8)])
-            self.assertEqual([one != other for other in again], [at != k for k in range(8)])
+            self.assertEqual([one == other for other in again], [at == k for k in range(10)])
+            self.assertEqual([one != other for other in again], [at != k for k in range(10)])
             self.assertFalse(one == (RISE,))
             self.assertFalse(one == None)  # noqa: E711
 

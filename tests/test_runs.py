@@ -321,7 +321,9 @@ class Views(unittest.TestCase):
         run = (("deliver", 1, 1, 5), ("rise", 7), ("deliver", 0, 1, 3), ("rise", 7))
         self.assertEqual(view_of(self.net, run, [1]), run[:1])
         self.assertEqual(view_of(self.net, run, [0]), run[1:])
-        self.assertEqual(view_of(self.net, [("deliver", 5, 0, 0), ("deliver", 0, 2, 0), None, ()], [0, 1, 2]), ())
+        none = [("deliver", 5, 0, 0), ("deliver", 2, 0, 0), ("deliver", 0, 2, 0), None, (), ("fall", 1), ("send", 0, 0, 0),
+                ("deliver", 0, 0), ("deliver", 0, 0, 0, 0), ("rise",), ("rise", 1, 1)]
+        self.assertEqual(view_of(self.net, none, [0, 1, 2]), ())
 
     def test_the_seat_of_a_node_hangs_on_its_view_alone(self):
         for at, system in enumerate(systems()):
@@ -365,6 +367,7 @@ class Texts(unittest.TestCase):
         for text, path in cases:
             self.assertEqual(raised(self, BadShape, read_run, text), {"path": path}, text)
         self.assertEqual(read_run("((rise 23) (deliver 11 1 5))"), (("rise", 23), ("deliver", 11, 1, 5)))
+        self.assertEqual(read_run("((rise 0) (deliver 0 0 0))"), (("rise", 0), ("deliver", 0, 0, 0)))
 
     def test_text_comes_ahead_of_shape(self):
         self.assertEqual(raised(self, BadText, read_run, "((stop 1)"), {"place": 9})

@@ -17,7 +17,8 @@ NO_DEEDS = (None, "rise", 5, {}, {0: "rise", 1: 1}, (), ("rise",), ("rise", 1, 1
             ("deliver", 0, 0, 0, 0), ("send", 0, 0, 0), ("rise", None), ("rise", "1"), ("rise", -1), ("rise", 99), ("rise", (1,)),
             (1, "rise"), ("deliver", 99, 0, 0), ("deliver", -1, 0, 0), ("deliver", 0, 2, 0), ("deliver", 0, -1, 0),
             ("deliver", 0, 0, 99), ("deliver", 0, 0, -1), ("deliver", False, 0, 0), ("deliver", 0, False, 0), ("deliver", 0, 0, False),
-            ("deliver", None, None, None), (None, 0, 0, 0), (("deliver",), 0, 0, 0), ["rise", [1]])
+            ("deliver", None, None, None), (None, 0, 0, 0), (("deliver",), 0, 0, 0), ["rise", [1]],
+            ("fall", 1), (None, 1), ("deliver", 1), ("deliver", 2, 0, 0), ("deliver", 3, 0, 0))
 
 
 class Model:
@@ -204,6 +205,12 @@ class Parts(unittest.TestCase):
         self.assertEqual(system.spent, ((0, 0, 1), (0, 1, 1)))
         self.assertEqual(pair(order).spent, ())
         self.assertEqual([type(part) for part in (system.goals, system.spent, system.spent[0])], [tuple] * 3)
+
+    def test_spent_frames_are_ascending(self):
+        triples = [(0, way, frame) for way in (0, 1) for frame in range(6)]
+        for seed in range(9):
+            spent = random.Random(seed).sample(triples, 12)
+            self.assertEqual(pair(chain_order(2), 6, None, spent + spent[:3]).spent, tuple(triples))
 
     def test_spent_frames_can_be_delivered(self):
         system = pair(chain_order(2), 2, None, [(0, 1, 1), (0, 0, 0)])
