@@ -1,5 +1,6 @@
 """[8.1] to [8.4]."""
 
+import copy
 import random
 import unittest
 
@@ -75,7 +76,11 @@ class Walks(unittest.TestCase):
         self.assertEqual(system.shown(standing), shown)
         quiet = True
         for deed in model.deeds():
-            if deed[0] == "deliver" and system.after(standing, deed) != standing:
+            behind = copy.copy(model)
+            behind.at, behind.sent = list(model.at), set(model.sent)
+            behind.do(deed)
+            self.assertEqual(system.after(standing, deed), behind.standing())
+            if deed[0] == "deliver" and behind.standing() != standing:
                 quiet = False
         self.assertIs(system.is_quiet(standing), quiet)
         self.assertIs(system.is_settled(standing), quiet and shown == model.risen)
@@ -309,6 +314,10 @@ class Wrong(unittest.TestCase):
         net = Net(3, 1, 2, [(0, 1, 2, "loose"), (1, 2, 1, "ordered"), (2, 0, 3, "ordered")])
         tables = [self.relay, self.source, self.sink]
         self.assertEqual(raised(self, OrderedLink, System, net, tables, self.order), {"link": 1})
+        thick = Net(3, 1, 2, [(0, 1, 2, "ordered"), (1, 2, 1, "loose"), (2, 0, 3, "ordered")])
+        self.assertEqual(raised(self, OrderedLink, System, thick, tables, self.order), {"link": 0})
+        last = Net(3, 1, 2, [(0, 1, 2, "loose"), (1, 2, 1, "loose"), (2, 0, 3, "ordered")])
+        self.assertEqual(raised(self, OrderedLink, System, last, tables, self.order), {"link": 2})
         self.refused(0, "spent", spent=[(3, 0, 0)], net=net)
         self.refused(1, "goals", goals=[], net=net)
         self.refused(2, "show", sink=NodeTable([[]], [[]], None, [3]), net=net)
