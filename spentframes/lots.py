@@ -56,7 +56,7 @@ def _split(graph, home, many, members, steps):
     return parts
 
 
-def _taken_apart(graph):
+def taken_apart(graph):
     """Return (lots, steps): the greatest fair lots, and the steps that take all other vertices away."""
     home = [0] * len(graph.wants)
     waiting = [list(range(len(home)))] if home else []
@@ -77,7 +77,7 @@ def _taken_apart(graph):
 
 def fair_lots(wants, arcs):
     """Return the greatest fair lots, by their least members."""
-    lots, _ = _taken_apart(read_graph(wants, arcs))
+    lots, _ = taken_apart(read_graph(wants, arcs))
     return lots
 
 
@@ -133,13 +133,18 @@ def tour_fault(wants, arcs, vertex, tour):
 
 def no_lot_paper(wants, arcs):
     """Return a paper that there is no fair lot, or None if there is one."""
-    lots, steps = _taken_apart(read_graph(wants, arcs))
+    lots, steps = taken_apart(read_graph(wants, arcs))
     return None if lots else steps
 
 
 def no_lot_fault(wants, arcs, steps):
     """Return None if steps are a paper that there is no fair lot, else (place, word) of the first wrong step."""
-    parts = Parts(read_graph(wants, arcs))
+    return steps_fault(read_graph(wants, arcs), steps)
+
+
+def steps_fault(graph, steps):
+    """Return what `no_lot_fault` returns for the steps and a graph."""
+    parts = Parts(graph)
     if not is_sequence(steps):
         return 0, "step"
     for place, step in enumerate(steps):

@@ -92,19 +92,32 @@ def _is_fair(system, standings, loop):
     return True
 
 
-def loop_fault(system, run, loop):
-    """Return None if a loop behind a run is fair and stuck, else the word of what it is not."""
+def loop_along(system, run, loop):
+    """Return (None, standings of a loop behind a run), or (word, None) if it is no such loop."""
     behind = standings_along(system, system.first(), run)
     if behind is None:
-        return "run"
+        return "run", None
     standings = standings_along(system, behind[-1], loop)
     if standings is None:
-        return "deed"
+        return "deed", None
     if standings[-1] != standings[0]:
-        return "open"
+        return "open", None
+    return None, standings
+
+
+def always_shows(system, standings):
+    """Tell whether the sink shows the source's state in all of these standings."""
+    return all([system.shown(standing) == standing[2] for standing in standings])
+
+
+def loop_fault(system, run, loop):
+    """Return None if a loop behind a run is fair and stuck, else the word of what it is not."""
+    word, standings = loop_along(system, run, loop)
+    if word is not None:
+        return word
     if not _is_fair(system, standings, loop):
         return "unfair"
-    return "told" if all([system.shown(standing) == standing[2] for standing in standings]) else None
+    return "told" if always_shows(system, standings) else None
 
 
 def _is_triple(thing):
@@ -117,10 +130,10 @@ def round_from(system, standing, held=()):
     kept_back = {tuple(triple) for triple in held if _is_triple(triple)}
     deeds = []
     behind = standing
-    for deed in system.deeds_from(standing):
-        if deed[0] == "deliver" and deed[1:] not in kept_back:
+    for deed in system.readings_from(standing):
+        if deed[1:] not in kept_back:
             deeds.append(deed)
-            behind = system.after(behind, deed)
+            behind = system.moved(behind, deed)
     return tuple(deeds), behind
 
 

@@ -94,6 +94,7 @@ class System:
         self.order = order
         self.goals = None if goals is None else tuple(sorted(goals))
         self.spent = tuple(sorted(set([tuple(triple) for triple in spent])))
+        self._receivers = [(other, one) for one, other, _, _ in net.links]
 
     def _sends_of(self, node, seat):
         """Return what a node sends in a seat, as triples (link, way, frame)."""
@@ -107,13 +108,13 @@ class System:
             sent = _with_sends(sent, self._sends_of(node, 0))
         return (0,) * self.net.nodes, sent, 0
 
-    def _rises_from(self, risen):
+    def rises_from(self, risen):
         """Return the states to which the source can rise from a state, ascending."""
         if self.goals is None:
             return self.order.above(risen)
         return self.goals if risen == 0 else ()
 
-    def _deliveries_from(self, standing):
+    def readings_from(self, standing):
         """Return all deliveries that can be done in a standing, ascending."""
         _, sent, _ = standing
         return [("deliver", link, way, frame) for link in range(len(sent)) for way in range(2)
@@ -121,7 +122,7 @@ class System:
 
     def deeds_from(self, standing):
         """Return all deeds that can be done in a standing, ascending."""
-        return tuple(self._deliveries_from(standing) + [("rise", state) for state in self._rises_from(standing[2])])
+        return tuple(self.readings_from(standing) + [("rise", state) for state in self.rises_from(standing[2])])
 
     def _can_do(self, standing, deed):
         """Tell whether a thing is a deed that can be done in a standing."""
@@ -129,30 +130,37 @@ class System:
             return False
         _, sent, risen = standing
         if len(deed) == 2 and deed[0] == "rise":
-            return is_whole(deed[1]) and deed[1] in self._rises_from(risen)
+            return is_whole(deed[1]) and deed[1] in self.rises_from(risen)
         if len(deed) != 4 or deed[0] != "deliver":
             return False
         _, link, way, frame = deed
         return is_triple(self.net, (link, way, frame)) and frame in sent[link][way]
 
-    def _next_seat(self, at, deed):
-        """Return the node that a deed reaches and the seat to which it leads it."""
+    def reached_by(self, deed):
+        """Return the node that a deed reaches."""
+        return self.net.source if deed[0] == "rise" else self._receivers[deed[1]][deed[2]]
+
+    def moved(self, standing, deed):
+        """Return the standing behind a deed that can be done."""
+        at, sent, risen = standing
+        node = self.reached_by(deed)
         if deed[0] == "rise":
-            node = self.net.source
-            return node, self.tables[node].next_on_rise(at[node], deed[1])
-        node = self.net.receiver(deed[1], deed[2])
-        return node, self.tables[node].next_seat(at[node], deed[1], deed[3])
+            risen = deed[1]
+            seat = self.tables[node].next_on_rise(at[node], risen)
+        else:
+            seat = self.tables[node].next_seat(at[node], deed[1], deed[3])
+            if seat == at[node]:
+                return standing
+        if seat != at[node]:
+            at = at[:node] + (seat,) + at[node + 1:]
+            sent = _with_sends(sent, self._sends_of(node, seat))
+        return at, sent, risen
 
     def after(self, standing, deed):
         """Return the standing behind a deed."""
         if not self._can_do(standing, deed):
             raise NoDeed(deed)
-        at, sent, risen = standing
-        node, seat = self._next_seat(at, deed)
-        if seat != at[node]:
-            at = at[:node] + (seat,) + at[node + 1:]
-            sent = _with_sends(sent, self._sends_of(node, seat))
-        return at, sent, (deed[1] if deed[0] == "rise" else risen)
+        return self.moved(standing, deed)
 
     def shown(self, standing):
         """Return the state that the sink shows in a standing."""
@@ -166,7 +174,7 @@ class System:
 
     def is_quiet(self, standing):
         """Tell whether no delivery that can be done changes a standing."""
-        return all([self.after(standing, deed) == standing for deed in self._deliveries_from(standing)])
+        return all([self.moved(standing, deed) == standing for deed in self.readings_from(standing)])
 
     def is_settled(self, standing):
         """Tell whether a standing is quiet and the sink shows the source's state."""

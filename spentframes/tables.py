@@ -75,6 +75,8 @@ class NodeTable:
         self.moves = _ascending(moves)
         self.rises = None if rises is None else _ascending(rises)
         self.shows = None if shows is None else tuple(shows)
+        # A search through many standings asks for the next seat far more often than all else.
+        self._nexts = [{(link, frame): after for link, frame, after in triples} for triples in self.moves]
 
     def __len__(self):
         return len(self.sends)
@@ -91,10 +93,7 @@ class NodeTable:
     def next_seat(self, seat, link, frame):
         """Return the seat to which a frame leads that comes in on a link."""
         self._check_seat(seat)
-        for on, what, after in self.moves[seat]:
-            if on == link and what == frame:
-                return after
-        return seat
+        return self._nexts[seat].get((link, frame), seat)
 
     def next_on_rise(self, seat, state):
         """Return the seat to which a rise of the source's state leads."""
