@@ -79,7 +79,7 @@ def _has_room(net, flow, link, way):
     return is_thick(net, link) or going < net.links[link][2]
 
 
-def _shortest_route(net, ways):
+def shortest_route(net, ways):
     """Return the ways on a route from the source to the sink, of these couples (link, way); None if there is none."""
     routes = {net.source: ()}
     waiting = [net.source]
@@ -99,7 +99,7 @@ def _greatest_flow(net, most):
     for many in range(most):
         # A path may go against an earlier one: both together leave the link unused there.
         ways = [(link, way) for link in range(len(net)) for way in range(2) if _has_room(net, flow, link, way)]
-        route = _shortest_route(net, ways)
+        route = shortest_route(net, ways)
         if route is None:
             return flow, many
         for link, way in route:
@@ -116,7 +116,7 @@ def greatest_paths(net, most):
     for _ in range(many):
         ways = [(link, 0 if flow[link] > 0 else 1) for link in range(len(net)) if flow[link] != 0]
         path = []
-        for link, way in _shortest_route(net, ways):
+        for link, way in shortest_route(net, ways):
             flow[link] -= 1 if way == 0 else -1
             path.append((link, way, 0 if is_thick(net, link) else used[link]))
             used[link] += 1

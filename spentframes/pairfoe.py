@@ -1,8 +1,8 @@
 """What breaks ordered pairs of one or two frames whose order or goals do not fit them.
 
-A new frame differs from the one before, so with two frames there is no choice behind the first frame, and with one there
-is none at all. So runs in which the source rises to unlike states are kept in step: their sinks read the same frames
-and show the same, while each source goes on in its own way.
+A new frame differs from the one before, so with two frames there is no choice behind the first frame, and with one
+there is none at all. So runs in which the source rises to unlike states are kept in step: their sinks read the same
+frames and show the same, while each source goes on in its own way.
 """
 
 from spentframes.errors import TooMany

@@ -15,9 +15,9 @@ FIRST_SINK = (0, (), None)
 class Speech:
     """How the covers of the states of an order are told over an ordered link of m frames.
 
-    A seat of the source is (told, cover, at, frame, risen): the state told so far, the cover that is being told or None,
-    the number of its digits that have come back, the newest frame, and the state to which the source has risen. A seat
-    of the sink is (told, digits, frame), with the digits that have come for the next cover.
+    A seat of the source is (told, cover, at, frame, risen): the state told so far, the cover that is being told or
+    None, the number of its digits that have come back, the newest frame, and the state to which the source has risen.
+    A seat of the sink is (told, digits, frame), with the digits that have come for the next cover.
     """
 
     def __init__(self, order, m):

@@ -8,7 +8,7 @@ class Tour:
         self.graph = graph
         self.is_in = {member: True for member in lot}
         self.missing = {key: True for member in lot for key in graph.wants[member]}
-        self.tried = {member: 0 for member in lot}
+        self.looked_at = {member: 0 for member in lot}
         self.start = vertex
         self.at = vertex
         self.arcs = []
@@ -19,11 +19,11 @@ class Tour:
         Keys that are missing only become fewer, so an arc that gave none need not be tried again.
         """
         arcs = self.graph.leaving[vertex]
-        while self.tried[vertex] < len(arcs):
-            arc = arcs[self.tried[vertex]]
+        while self.looked_at[vertex] < len(arcs):
+            arc = arcs[self.looked_at[vertex]]
             if self.graph.targets[arc] in self.is_in and any([key in self.missing for key in self.graph.gives[arc]]):
                 return arc
-            self.tried[vertex] += 1
+            self.looked_at[vertex] += 1
         return None
 
     def _is_end(self, vertex):

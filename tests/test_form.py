@@ -83,9 +83,10 @@ class Form(unittest.TestCase):
             for words in LIBRARY.values():
                 own |= words
         for path, tree in trees():
+            passed = {node.arg for node in nodes(tree, ast.arg)}
             for node in nodes(tree, ast.Call):
                 if isinstance(node.func, ast.Name):
-                    self.assertIn(node.func.id, own | BUILTINS, (path.name, node.lineno))
+                    self.assertIn(node.func.id, own | BUILTINS | passed, (path.name, node.lineno))
                 else:
                     self.assertIn(node.func.attr, own | METHODS, (path.name, node.lineno))
 
