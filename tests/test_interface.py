@@ -55,6 +55,34 @@ FUNCTIONS = {
         "fair_lots(wants, arcs)", "is_fair_lot(wants, arcs, lot)", "fair_tour(wants, arcs, lot, vertex)",
         "tour_fault(wants, arcs, vertex, tour)", "no_lot_paper(wants, arcs)", "no_lot_fault(wants, arcs, steps)"),
     "outcomes": ("breaks(system, outcome)",),
+    "verdicts": (
+        "reached(system, most=30000)", "run_to(system, standing, most=30000)", "judge(system, most=30000)",
+        "wrong_graph(system, standings)", "right_paper(system, most=30000)", "right_fault(system, paper)"),
+    "foe": (
+        "settle(system, standing, held=(), most=30000)", "told_apart(system, run, targets, side, most=30000)",
+        "break_by(system, side, most=30000)"),
+    "compiled": (
+        "pair_net(m)", "sender_seats(code)", "receiver_seats(code)", "pair_of(code)", "pair_system(code)",
+        "relay_table(net, paths, node)", "net_of(code, net, paths)", "net_system(code, net, paths)"),
+    "folds": ("fold_run(net, paths, run)", "unfold_run(net, paths, run)", "rounds_due(paths, m)"),
+    "goals": (
+        "check_goals(order, goals)", "deal_goals(order, goals, m)", "goal_rows_fault(order, goals, m, rows)",
+        "fewest_goal_frames(order, goals)", "is_told(order, lot, k)", "refusal_of(order, goals, m)",
+        "refusal_fault(order, goals, m, paper)", "rows_system(order, goals, m, rows)", "goal_rows_of_code(code, goals)"),
+    "sets": (
+        "deal_sets(order, goals, m)", "goal_sets_fault(order, goals, m, sets)", "fewest_set_frames(order, goals)",
+        "sets_system(order, goals, m, sets)", "is_silent(system)", "break_sets(system)"),
+    "pairs": (
+        "pair_end(pair, run)", "pair_run_fault(pair, run)", "pair_loop_fault(pair, run, loop)", "pair_round(pair, standing)",
+        "judge_pair(pair, most=30000)"),
+    "streams": (
+        "count_words(m, d)", "check_word(m, word)", "digits_to_word(m, digits)", "word_to_digits(m, word)"),
+    "ordered": (
+        "fits_ordered(order, m, goals=None)", "ordered_pair(order, m, goals=None)", "chains_or_three(order, goals)"),
+    "pairfoe": ("break_pair(pair)",),
+    "keeper": ("keeper_text(keeper)", "read_keeper(text)", "keeper_twin(keeper)"),
+    "stories": (
+        "play_story(deeds)", "story_fault(deeds)", "story_answers(deeds)", "story_text(deeds)", "read_story(text)"),
 }
 CLASSES = {
     ("orders", "Order(n, pairs)"): (
@@ -75,10 +103,22 @@ CLASSES = {
     ("outcomes", "Back(run)"): ("__eq__(self, other)",),
     ("outcomes", "Stuck(run, loop)"): ("__eq__(self, other)",),
     ("outcomes", "Told(rows)"): ("__eq__(self, other)",),
+    ("pairs", "OrderedPair(order, frames, tables, goals=None)"): (
+        "first(self)", "deeds_from(self, standing)", "after(self, standing, deed)", "shown(self, standing)",
+        "sending(self, standing)"),
+    ("streams", "StreamSource(m, digits=())"): ("put(self, digits)", "hear(self, frame)"),
+    ("streams", "StreamSink(m)"): ("hear(self, frame)",),
+    ("keeper", "Keeper(order, net)"): (
+        "sent_on(self, link, way)", "read_from(self, link, way)", "deeds_now(self)", "do_deed(self, deed)",
+        "small_steps(self, deed)", "do_part(self, deed, many)", "disk_of(self, node)", "quiet_now(self)",
+        "settled_now(self)", "calm_down(self)", "change_order(self, order)"),
+    ("desk", "Desk()"): (
+        "do(self, deed)", "verdict_now(self)", "broken_now(self, side)", "tried(self, work)", "trial(self)",
+        "__len__(self)", "__iter__(self)"),
 }
-PROPERTIES = {("orders", "Order"): ("ends",)}
+PROPERTIES = {("orders", "Order"): ("ends",), ("keeper", "Keeper"): ("shown_now", "risen_now", "left_now", "asleep_now")}
 GENERATORS = {("orders", "Order.each_course"), ("rows", "all_rows"), ("coursing", "each_row"), ("runs", "walk"),
-              ("cuts", "each_side")}
+              ("cuts", "each_side"), ("stories", "story_answers")}
 
 
 def described(name, thing):
