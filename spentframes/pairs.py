@@ -57,17 +57,24 @@ class OrderedPair:
             deeds.extend([("read", way, k) for k in range(least, len(tail) + 1)])
         return deeds
 
+    def changes_from(self, standing):
+        """Return the readings that can be done in a standing and lead to another one, by way and by place."""
+        return [deed for deed in self.readings_from(standing) if self.moved(standing, deed) != standing]
+
+    def rises_from(self, standing):
+        """Return all rises that can be done in a standing, ascending."""
+        return [("rise", state) for state in self._loose.states_from(standing[2])]
+
     def deeds_from(self, standing):
         """Return all deeds that can be done in a standing: readings, then rises."""
-        rises = self._loose.rises_from(standing[2])
-        return tuple(self.readings_from(standing) + [("rise", state) for state in rises])
+        return tuple(self.readings_from(standing) + self.rises_from(standing))
 
     def _can_do(self, standing, deed):
         """Tell whether a thing is a deed that can be done in a standing."""
         if not is_sequence(deed):
             return False
         if len(deed) == 2 and deed[0] == "rise":
-            return is_whole(deed[1]) and deed[1] in self._loose.rises_from(standing[2])
+            return is_whole(deed[1]) and deed[1] in self._loose.states_from(standing[2])
         if len(deed) != 3 or deed[0] != "read" or not is_whole(deed[1], 0, 1):
             return False
         last, tail = standing[1][deed[1]]
@@ -169,6 +176,11 @@ class PairKeys:
             if standing[1][way][1]:
                 keys.append(2 * self.pair.frames + way)
         return tuple(keys)
+
+    def keys_kept(self, standing, changes):
+        """Return the keys of all that can be read in a standing but by the deeds that change it."""
+        kept = [deed for deed in self.pair.readings_from(standing) if deed not in changes]
+        return [key for deed in kept for key in self.keys_given(standing, deed)]
 
     def keys_given(self, standing, deed):
         """Return the keys of what a reading deed reads in a standing."""

@@ -2,9 +2,10 @@
 
 from spentframes.errors import TooMany
 from spentframes.graphs import Graph
-from spentframes.lots import fair_tour, taken_apart
+from spentframes.lots import taken_apart
 from spentframes.outcomes import Above, Back, Stuck
 from spentframes.runs import shows_above, turns_back
+from spentframes.tours import Tour
 
 
 class Search:
@@ -40,12 +41,11 @@ class Search:
         self.came.append(came)
 
     def _go_on(self, place):
-        """Do all deeds of the standing at a place."""
+        """Do all deeds that lead from the standing at a place to another one."""
         standing = self.standings[place]
-        for deed in self.system.deeds_from(standing):
+        for deed in self.system.changes_from(standing) + self.system.rises_from(standing):
             behind = self.system.moved(standing, deed)
-            # Most deeds change nothing, and a standing is compared with itself far quicker than it is looked up.
-            if behind == standing or not self.is_let(behind):
+            if not self.is_let(behind):
                 continue
             if self.turn is None and turns_back(self.system, standing, behind):
                 self.turn = (place, deed)
@@ -83,23 +83,35 @@ class Search:
         lots, _ = taken_apart(graph)
         if not lots:
             return None
-        lot = [vertices[vertex] for vertex in lots[0]]
-        return Stuck(self.run_to(self.places[lot[0]]), self._loop_within(lot, keys))
+        run = self.run_to(self.places[vertices[lots[0][0]]])
+        return Stuck(run, self._loop_within(vertices, graph, lots[0], keys))
 
-    def _loop_within(self, lot, keys):
-        """Return the deeds of a fair loop from the first standing of a fair lot and back."""
-        numbers = {standing: vertex for vertex, standing in enumerate(lot)}
-        wants = [keys.keys_wanted(standing) for standing in lot]
-        arcs = []
-        deeds = []
-        for vertex, standing in enumerate(lot):
-            for deed in self.system.readings_from(standing):
-                target = numbers.get(self.system.moved(standing, deed))
-                if target is not None:
-                    arcs.append((vertex, target, keys.keys_given(standing, deed)))
-                    deeds.append(deed)
-        tour = fair_tour(wants, arcs, list(range(len(lot))), 0)
-        return tuple([deeds[arc] for arc in tour])
+    def _loop_within(self, vertices, graph, lot, keys):
+        """Return the deeds of a fair loop from the first vertex of a fair lot and back."""
+        missing = {key: True for vertex in lot for key in graph.wants[vertex]}
+        loop = []
+        for arc in Tour(graph, lot, lot[0]).whole():
+            standing = vertices[graph.sources[arc]]
+            target = vertices[graph.targets[arc]]
+            if standing == target:
+                deeds = self._deeds_staying(standing, missing, keys)
+            else:
+                deeds = self._deeds_between(standing, target, graph.gives[arc], keys)[:1]
+            for deed in deeds:
+                loop.append(deed)
+                for key in keys.keys_given(standing, deed):
+                    missing.pop(key, None)
+        return tuple(loop)
+
+    def _deeds_between(self, standing, target, gives, keys):
+        """Return the deeds that lead from a standing to another one and give these keys."""
+        deeds = [deed for deed in self.system.changes_from(standing) if keys.keys_given(standing, deed) == gives]
+        return [deed for deed in deeds if self.system.moved(standing, deed) == target]
+
+    def _deeds_staying(self, standing, missing, keys):
+        """Return the deeds that leave a standing as it was and give a missing key."""
+        deeds = [deed for deed in self.system.readings_from(standing) if keys.keys_given(standing, deed)[0] in missing]
+        return [deed for deed in deeds if self.system.moved(standing, deed) == standing]
 
     def find_outcome(self, keys):
         """Return the first of Above, Back and Stuck that there is, or None."""
@@ -118,12 +130,10 @@ def wrong_vertices(system, standings, keys):
     numbers = {standing: vertex for vertex, standing in enumerate(vertices)}
     arcs = []
     for vertex, standing in enumerate(vertices):
-        kept = []
-        for deed in system.readings_from(standing):
-            behind = system.moved(standing, deed)
-            if behind == standing:
-                kept.extend(keys.keys_given(standing, deed))
-            elif behind in numbers:
-                arcs.append((vertex, numbers[behind], keys.keys_given(standing, deed)))
-        arcs.append((vertex, vertex, kept))
+        changes = system.changes_from(standing)
+        for deed in changes:
+            target = numbers.get(system.moved(standing, deed))
+            if target is not None:
+                arcs.append((vertex, target, keys.keys_given(standing, deed)))
+        arcs.append((vertex, vertex, keys.keys_kept(standing, changes)))
     return vertices, Graph([keys.keys_wanted(standing) for standing in vertices], arcs)

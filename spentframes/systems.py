@@ -108,7 +108,7 @@ class System:
             sent = _with_sends(sent, self._sends_of(node, 0))
         return (0,) * self.net.nodes, sent, 0
 
-    def rises_from(self, risen):
+    def states_from(self, risen):
         """Return the states to which the source can rise from a state, ascending."""
         if self.goals is None:
             return self.order.above(risen)
@@ -120,9 +120,24 @@ class System:
         return [("deliver", link, way, frame) for link in range(len(sent)) for way in range(2)
                 for frame in sent[link][way]]
 
+    def changes_from(self, standing):
+        """Return the deliveries that can be done in a standing and lead to another one, ascending."""
+        at, sent, _ = standing
+        deeds = []
+        for node, seat in enumerate(at):
+            for link, frame, after in self.tables[node].moves[seat]:
+                way = 0 if self._receivers[link][0] == node else 1
+                if after != seat and frame in sent[link][way]:
+                    deeds.append(("deliver", link, way, frame))
+        return sorted(deeds)
+
+    def rises_from(self, standing):
+        """Return all rises that can be done in a standing, ascending."""
+        return [("rise", state) for state in self.states_from(standing[2])]
+
     def deeds_from(self, standing):
         """Return all deeds that can be done in a standing, ascending."""
-        return tuple(self.readings_from(standing) + [("rise", state) for state in self.rises_from(standing[2])])
+        return tuple(self.readings_from(standing) + self.rises_from(standing))
 
     def _can_do(self, standing, deed):
         """Tell whether a thing is a deed that can be done in a standing."""
@@ -130,7 +145,7 @@ class System:
             return False
         _, sent, risen = standing
         if len(deed) == 2 and deed[0] == "rise":
-            return is_whole(deed[1]) and deed[1] in self.rises_from(risen)
+            return is_whole(deed[1]) and deed[1] in self.states_from(risen)
         if len(deed) != 4 or deed[0] != "deliver":
             return False
         _, link, way, frame = deed
@@ -174,7 +189,7 @@ class System:
 
     def is_quiet(self, standing):
         """Tell whether no delivery that can be done changes a standing."""
-        return all([self.moved(standing, deed) == standing for deed in self.readings_from(standing)])
+        return not self.changes_from(standing)
 
     def is_settled(self, standing):
         """Tell whether a standing is quiet and the sink shows the source's state."""

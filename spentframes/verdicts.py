@@ -19,6 +19,10 @@ class TripleKeys:
         """Return the keys of what is sent in a standing, ascending."""
         return tuple([self.numbers[triple] for triple in self.system.sending(standing)])
 
+    def keys_kept(self, standing, changes):
+        """Return the keys of all that can be delivered in a standing but by the deeds that change it."""
+        return [self.numbers[deed[1:]] for deed in self.system.readings_from(standing) if deed not in changes]
+
     def keys_given(self, _, deed):
         """Return the key of what a deed delivers."""
         return (self.numbers[deed[1:]],)
@@ -68,7 +72,8 @@ def _standing_fault(system, places, standing):
     """Return the word of what is wrong with a standing of a paper, or None."""
     if shows_above(system, standing):
         return "above"
-    for deed in system.deeds_from(standing):
+    # Deeds that change nothing lead to a standing that is there, and what is shown stays.
+    for deed in system.changes_from(standing) + system.rises_from(standing):
         behind = system.moved(standing, deed)
         if behind not in places:
             return "closed"
