@@ -91,8 +91,6 @@ def _behind_frame(wiring, node, disk, path):
     """Return a disk behind the coming of a path's frame; the same one if that is not new."""
     word, known, ends = disk
     if word == "sink":
-        if path in known:
-            return disk
         return _with_number_done(wiring, node, (word, hear_frame(known, path), ends), path)
     if (path, CAME) in known:
         return disk

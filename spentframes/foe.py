@@ -33,9 +33,9 @@ def _check_targets(system, standing, targets):
     """Raise BadTargets if a thing is no sequence of unlike states to which the source can rise in a standing."""
     if not is_sequence(targets):
         raise BadTargets(-1)
-    rises = [deed[1] for deed in system.deeds_from(standing) if deed[0] == "rise"]
+    let = [state for _, state in system.rises_from(standing)]
     for at, target in enumerate(targets):
-        if not is_whole(target) or target not in rises or target in targets[:at]:
+        if not is_whole(target) or target not in let or target in targets[:at]:
             raise BadTargets(at)
 
 
@@ -110,7 +110,7 @@ class Parting:
 
 
 def _parted(system, run, standing, targets, crossing, most):
-    """Return (outcome, None), or (None, members told apart) behind a run to a standing at rest, members ascending."""
+    """Return (outcome, members) behind a run to a standing at rest; without an outcome the members are told apart."""
     members = []
     for state in sorted([standing[2]] + list(targets)):
         member = Member(system, state, run, standing)

@@ -103,7 +103,7 @@ def refusal_fault(order, goals, m, paper):
             if word is not None:
                 return level, at, word
         barred = [lots.mask_of(lot) for lot in untold]
-        let = [mask for mask in range(1, lots.full + 1) if not any([is_within(lot, mask) for lot in barred])]
+        let = [mask for mask in range(1, lots.full + 1) if not any([is_within(bar, mask) for bar in barred])]
         fewest = lots.fewest_parts(let)
     return (m, -1, "goals") if fewest[lots.full] <= m else None
 

@@ -43,7 +43,7 @@ def _two_chains(order, names):
                     if other not in chains and not _are_comparable(order, goal, other):
                         chains[other] = 1 - chains[goal]
                         waiting.append(other)
-    return tuple([tuple([goal for goal in names if chains[goal] == chain]) for chain in range(2)])
+    return tuple([tuple([name for name in names if chains[name] == chain]) for chain in range(2)])
 
 
 def chains_or_three(order, goals):

@@ -12,7 +12,8 @@ class Search:
     """All standings to which runs lead, in the order of their first runs.
 
     Standings are gone through by the length of their first runs, and the deeds of each ascending; so of the runs that
-    lead to a standing the first one is found first.
+    lead to a standing the first one is found first. `came` tells for each standing the place and the deed from which it
+    was reached, `turn` the first such couple behind which the state shown falls or turns aside.
     """
 
     def __init__(self, system, most):

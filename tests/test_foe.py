@@ -384,6 +384,16 @@ class Breaking(unittest.TestCase):
             system = System(right.net, right.tables, right.order, None, spent)
             self.assertTrue(breaks(system, break_by(system, (0,))))
 
+    def test_a_loop_that_shows_another_state(self):
+        # The source sends frame 0 from the first, and each delivery leads the sink on, round its seats.
+        net = Net(2, 0, 1, [(0, 1, 1, "loose")])
+        for shows, many in (([0, 1], 1), ([0, 0, 1], 2), ([0, 1, 1], 1)):
+            n = len(shows)
+            sink = NodeTable([[]] * n, [[(0, 0, (seat + 1) % n)] for seat in range(n)], None, shows)
+            system = System(net, [NodeTable([[(0, 0)]], [[]], [[]]), sink], chain_order(2))
+            self.assertEqual(break_by(system, [0]), Above([("deliver", 0, 0, 0)] * many))
+            self.assertEqual(raised(self, NotAtRest, told_apart, system, (), None, None), {})
+
     def test_the_side_comes_first(self):
         system = showing(chain_order(2), [1, 1, 1])
         for side, what in (([], "source"), ((0, 1), "sink"), ([2], "nodes"), ("0", "nodes"), ([False], "nodes"), ([1], "source")):

@@ -128,6 +128,19 @@ class Systems(unittest.TestCase):
                     self.assertEqual(system.shown(standing), shown)
                 self.assertEqual(shown, goal)
 
+    def test_a_set_that_is_no_goals_own_leaves_what_is_shown(self):
+        system = sets_system(chain_order(3), [1, 2], 4, [[1], [0, 1, 2, 3]])
+        standing, shown = end_of(system, [("rise", 2)]), []
+        for frame in (3, 1, 0, 2):
+            standing = system.after(standing, ("deliver", 0, 0, frame))
+            shown.append(system.shown(standing))
+        self.assertEqual(shown, [0, 0, 0, 2])
+        standing, shown = end_of(system, [("rise", 2)]), []
+        for frame in (1, 0, 0, 3, 2):
+            standing = system.after(standing, ("deliver", 0, 0, frame))
+            shown.append(system.shown(standing))
+        self.assertEqual(shown, [1, 1, 1, 1, 2])
+
     def test_right(self):
         for order, goals, m, sets in self.systems():
             system = sets_system(order, goals, m, sets)

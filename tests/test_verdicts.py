@@ -177,6 +177,15 @@ class Judged(unittest.TestCase):
         self.assertEqual(judge(late), Back((("rise", 1), there, ("deliver", 0, 0, 1))))
         self.assertEqual(judge(showing(chain_order(2), [0, 0, 0])), Stuck((("rise", 1), there), (there,)))
 
+    def test_the_first_of_several_runs_that_turn_back(self):
+        # Each of the seats 1 and 2 is left for one that shows 0 again.
+        net = Net(2, 0, 1, [(0, 1, 3, "loose")])
+        source = NodeTable([[], [(0, 0), (0, 1), (0, 2)]], [[], []], [[(1, 1)], []])
+        sink = NodeTable([[]] * 4, [[(0, 0, 1), (0, 1, 2)], [(0, 1, 3), (0, 2, 3)], [(0, 0, 3), (0, 2, 0)], []], None, [0, 1, 1, 0])
+        system = System(net, [source, sink], chain_order(2))
+        self.assertEqual(judge(system), Back((("rise", 1), ("deliver", 0, 0, 0), ("deliver", 0, 0, 1))))
+        self.assertEqual((type(judge(system)), judge(system).run), verdict_by_words(system, first_runs(system)))
+
     def test_right_systems(self):
         for system in right_systems():
             self.assertIsNone(judge(system))
