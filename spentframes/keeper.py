@@ -122,7 +122,7 @@ class Keeper:
             return False
         return self.net.receiver(link, way) not in self._asleep and item in self._items_on(link, way)
 
-    def _can_do(self, deed):
+    def _is_deed(self, deed):
         """Tell whether a thing is a deed that can be done."""
         if not is_sequence(deed):
             return False
@@ -161,7 +161,7 @@ class Keeper:
 
     def _check_deed(self, deed):
         """Raise NoDeed if a thing is no deed that can be done."""
-        if not self._can_do(deed):
+        if not self._is_deed(deed):
             raise NoDeed(deed)
 
     def _steps_to(self, deed, disk):

@@ -53,7 +53,7 @@ class Search:
             if behind not in self.places:
                 self._reach(behind, (place, deed))
 
-    def run_to(self, place):
+    def run_to_place(self, place):
         """Return the first run to the standing at a place."""
         deeds = []
         while self.came[place] is not None:
@@ -65,7 +65,7 @@ class Search:
         """Return Above with the first run behind which the sink shows what is not at most the source's state."""
         for place, standing in enumerate(self.standings):
             if shows_above(self.system, standing):
-                return Above(self.run_to(place))
+                return Above(self.run_to_place(place))
         return None
 
     def find_back(self):
@@ -73,7 +73,7 @@ class Search:
         if self.turn is None:
             return None
         place, deed = self.turn
-        return Back(self.run_to(place) + (deed,))
+        return Back(self.run_to_place(place) + (deed,))
 
     def find_stuck(self, keys):
         """Return Stuck with the first run to a standing on a fair loop in which the sink is always wrong.
@@ -84,7 +84,7 @@ class Search:
         lots, _ = taken_apart(graph)
         if not lots:
             return None
-        run = self.run_to(self.places[vertices[lots[0][0]]])
+        run = self.run_to_place(self.places[vertices[lots[0][0]]])
         return Stuck(run, self._loop_within(vertices, graph, lots[0], keys))
 
     def _loop_within(self, vertices, graph, lot, keys):

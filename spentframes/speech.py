@@ -40,7 +40,7 @@ class Speech:
             return digit
         return frame_behind(self.m, before, digit)
 
-    def digits_of(self, state, cover):
+    def cover_digits(self, state, cover):
         """Return the digits that tell a cover of a state."""
         place = self.order.covers(state).index(cover)
         if self.m < LEAST_FREE:
@@ -56,7 +56,7 @@ class Speech:
         """Return the source's seat in which the next cover is told, if there is one to be told."""
         for cover in self.order.covers(told):
             if self.order.at_most(cover, risen):
-                digit = self.digits_of(told, cover)[0]
+                digit = self.cover_digits(told, cover)[0]
                 return told, cover, 0, self.frame_of(frame, digit), risen
         return told, None, 0, frame, risen
 
@@ -70,7 +70,7 @@ class Speech:
     def source_behind_echo(self, seat):
         """Return the source's seat behind the frame that it sends, which has come back."""
         told, cover, at, frame, risen = seat
-        digits = self.digits_of(told, cover)
+        digits = self.cover_digits(told, cover)
         if at + 1 < len(digits):
             return told, cover, at + 1, self.frame_of(frame, digits[at + 1]), risen
         return self.source_gone_on(cover, frame, risen)
@@ -87,7 +87,7 @@ class Speech:
         told, digits, frame = seat
         steps = {}
         for cover in self.order.covers(told):
-            due = self.digits_of(told, cover)
+            due = self.cover_digits(told, cover)
             if due[:len(digits)] == digits:
                 new = self.frame_of(frame, due[len(digits)])
                 more = due[:len(digits) + 1]

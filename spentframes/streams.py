@@ -97,9 +97,9 @@ class StreamSource:
         is_idle = self.told == len(self.digits)
         self.digits = self.digits + tuple(digits)
         if is_idle:
-            self._go_on()
+            self._send_next()
 
-    def _go_on(self):
+    def _send_next(self):
         """Send the frame of the next digit, if there is one."""
         if self.told < len(self.digits):
             self.frame = frame_behind(self._m, self.frame, self.digits[self.told])
@@ -108,7 +108,7 @@ class StreamSource:
         """Take a frame that comes back."""
         if self.told < len(self.digits) and is_whole(frame) and frame == self.frame:
             self.told += 1
-            self._go_on()
+            self._send_next()
 
 
 class StreamSink:

@@ -36,7 +36,7 @@ def reached(system, most=30000):
 def run_to(system, standing, most=30000):
     """Return the first run to a standing to which runs lead."""
     search = Search(system, most)
-    return search.run_to(search.places[standing])
+    return search.run_to_place(search.places[standing])
 
 
 def judge(system, most=30000):

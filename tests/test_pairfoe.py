@@ -9,20 +9,10 @@ from spentframes.ordered import fits_ordered, ordered_pair
 from spentframes.orders import Order
 from spentframes.outcomes import Above, Back, Stuck
 from spentframes.pairfoe import break_pair
-from spentframes.pairs import OrderedPair, pair_end, pair_loop_fault
+from spentframes.pairs import OrderedPair
 from spentframes.tables import NodeTable
 from tests.helpers import form_orders
-from tests.test_pairs import one_way, table
-
-
-def breaks(pair, outcome):
-    """[9.5] with [14.3]."""
-    if isinstance(outcome, Stuck):
-        return pair_loop_fault(pair, outcome.run, outcome.loop) is None
-    end = pair_end(pair, outcome.run)
-    if isinstance(outcome, Above):
-        return not pair.order.at_most(pair.shown(end), end[2])
-    return not pair.order.at_most(pair.shown(pair_end(pair, outcome.run[:-1])), pair.shown(end))
+from tests.test_pairs import breaks, one_way, table
 
 
 def counting_source(order, dice, most):

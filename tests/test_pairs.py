@@ -331,6 +331,16 @@ def searched():
     return found
 
 
+def breaks(pair, outcome):
+    """[9.5] with [14.3]."""
+    if isinstance(outcome, Stuck):
+        return pair_loop_fault(pair, outcome.run, outcome.loop) is None
+    end = pair_end(pair, outcome.run)
+    if isinstance(outcome, Above):
+        return not pair.order.at_most(pair.shown(end), end[2])
+    return not pair.order.at_most(pair.shown(pair_end(pair, outcome.run[:-1])), pair.shown(end))
+
+
 class Judging(unittest.TestCase):
     def verdict(self, pair, standings):
         order = pair.order
@@ -352,14 +362,6 @@ class Judging(unittest.TestCase):
                     arcs.append((len(wants) - 1, wrong.index(pair.after(standing, deed)), keys))
         return Stuck if greatest_lots(wants, arcs) else type(None)
 
-    def breaks(self, pair, outcome):
-        if isinstance(outcome, Stuck):
-            return pair_loop_fault(pair, outcome.run, outcome.loop) is None
-        end = pair_end(pair, outcome.run)
-        if isinstance(outcome, Above):
-            return not pair.order.at_most(pair.shown(end), end[2])
-        return not pair.order.at_most(pair.shown(pair_end(pair, outcome.run[:-1])), pair.shown(end))
-
     def test_against_a_search(self):
         kinds = set()
         for pair, standings, is_long in searched():
@@ -370,7 +372,7 @@ class Judging(unittest.TestCase):
             found = judge_pair(pair)
             kinds.add(type(found))
             self.assertIs(type(found), self.verdict(pair, standings))
-            self.assertTrue(found is None or self.breaks(pair, found))
+            self.assertTrue(found is None or breaks(pair, found))
         self.assertEqual(kinds, {type(None), Above, Back, Stuck, LongTail})
 
     def test_as_many_as_let(self):
