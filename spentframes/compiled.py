@@ -135,9 +135,8 @@ def _relay_seat(through, numbers, marks):
 
 
 def _relay_table(net, paths, node):
-    """Return the table of a relay for right paths, of which at most six lead through it."""
+    """Return the table of a relay for at most six right paths, whether they lead through it or not."""
     through = _hops_through(net, paths, node)
-    _check_frames(len(through))
     marks = _all_marks(len(through))
     numbers = {seat: number for number, seat in enumerate(marks)}
     rows = [_relay_seat(through, numbers, seat) for seat in marks]
@@ -149,6 +148,7 @@ def relay_table(net, paths, node):
     right = check_paths(net, paths)
     if not is_whole(node, 0, net.nodes - 1) or node in (net.source, net.sink):
         raise NoRelay(node)
+    _check_frames(len(right))
     return _relay_table(net, right, node)
 
 

@@ -185,6 +185,17 @@ class Nets(Case):
         for order in (chain_order(2), chain_order(3), flat_order(3)):
             self.assertIsNone(judge(net_system(deep_code(order, 2), net, paths)))
 
+    def test_any_number_of_paths_from_m_on(self):
+        net = Net(3, 0, 2, [(0, 1, 6, "loose"), (0, 1, 6, "loose"), (1, 2, 6, "loose"), (1, 2, 6, "loose")])
+        paths = greatest_paths(net, 99)
+        self.assertEqual(len(paths), 12)
+        for m in (2, 6):
+            code = deep_code(flat_order(3), m)
+            for many in (m, 6, 7, 12):
+                tables = net_of(code, net, paths[:many])
+                self.assertEqual((tables[1].sends, tables[1].moves), relays_by_words(net, paths[:m], 1))
+                self.assertTrue(net_system(code, net, paths[:many]).tables == tables)
+
     def test_a_code_of_no_frames(self):
         net = Net(3, 0, 1, [(0, 2, 1, "loose"), (2, 1, 1, "loose")])
         for paths in ((), greatest_paths(net, 1)):
@@ -210,7 +221,7 @@ class Relays(unittest.TestCase):
         self.assertEqual(table.moves, (((0, 3, 1),), ((3, 2, 2),), ()))
 
     def test_a_node_on_no_path(self):
-        table = relay_table(self.net, self.paths, 2)
+        table = relay_table(self.net, self.paths[:6], 2)
         self.assertEqual((table.sends, table.moves, table.rises, table.shows), (((),), ((),), None, None))
         self.assertEqual(len(relay_table(self.net, (), 1)), 1)
 
@@ -223,8 +234,26 @@ class Relays(unittest.TestCase):
         for node in (0, 3, 4, -1, True, None, "1", 1.0):
             self.assertEqual(raised(self, NoRelay, relay_table, self.net, self.paths, node), {"node": node})
             self.assertEqual(raised(self, BadPaths, relay_table, self.net, [()], node), {"word": "path", "path": 0, "hop": -1})
-        self.assertEqual(raised(self, TooManyFrames, relay_table, self.net, self.paths, 1), {"frames": 8})
-        self.assertEqual(raised(self, TooManyFrames, relay_table, self.net, self.paths[1:], 1), {"frames": 7})
+        for node in (1, 2):
+            many = list(self.paths) + [()]
+            self.assertEqual(raised(self, BadPaths, relay_table, self.net, many, node), {"word": "path", "path": 8, "hop": -1})
+            self.assertEqual(raised(self, TooManyFrames, relay_table, self.net, self.paths, node), {"frames": 8})
+            self.assertEqual(raised(self, TooManyFrames, relay_table, self.net, self.paths[1:], node), {"frames": 7})
+
+    def test_paths_past_the_node_count(self):
+        net = Net(4, 0, 3, [(0, 1, 6, "loose"), (1, 3, 6, "loose"), (0, 2, 3, "loose"), (2, 3, 3, "loose"), (3, 0, 2, "loose")])
+        paths = greatest_paths(net, 99)
+        self.assertEqual(len(paths), 11)
+        through = {node: [path for path in paths if node in path_nodes(net, path)] for node in (1, 2)}
+        past = [path for path in paths if len(path) == 1]
+        self.assertEqual([len(through[1]), len(through[2]), len(past)], [6, 3, 2])
+        for node, other in ((1, 2), (2, 1)):
+            few = through[node][:2] + through[other][:2] + past
+            table = relay_table(net, few, node)
+            self.assertEqual((len(table), (table.sends, table.moves)), (9, relays_by_words(net, few, node)))
+            for more in (few + through[other][2:3], through[other][2:3] + few, few + through[node][2:3]):
+                self.assertEqual(raised(self, TooManyFrames, relay_table, net, more, node), {"frames": 7})
+            self.assertEqual(raised(self, TooManyFrames, relay_table, net, paths, node), {"frames": 11})
 
 
 class Wrong(unittest.TestCase):
